@@ -1,0 +1,1 @@
+"""Lookwords: numbers one to one for words."""
