@@ -6,6 +6,8 @@ MOST_WORDS = 6
 MOST_LETTERS = 6
 MOST_ROOM = 99
 MOST_WALK = 40
+LEAST_PLACE = -3
+MOST_PLACE = 2
 
 
 def is_between(thing, least, most):
@@ -35,7 +37,7 @@ def is_words(thing):
 def is_look(thing):
     if not isinstance(thing, tuple) or len(thing) != 2:
         return False
-    return all([is_between(place, -3, 2) for place in thing])
+    return all([is_between(place, LEAST_PLACE, MOST_PLACE) for place in thing])
 
 
 def is_worth(thing, room):

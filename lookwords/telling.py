@@ -102,23 +102,39 @@ def half(total, room):
     return rest // 2 if rest % 2 == 0 else (rest + room) // 2
 
 
-def root_worth(walk, room, numbers):
+def root_worths(walk, room, numbers):
     # Without an odd circle, so with the empty walk, every worth of the root will do.
-    return half(comes_to(walk, numbers, 0), room)
+    if len(walk) == 0:
+        return list(range(room))
+    worth = half(comes_to(walk, numbers, 0), room)
+    # In an even room half of it more comes to the same, taken twice.
+    return [worth, worth + room // 2] if room % 2 == 0 else [worth]
+
+
+def roots_of(seen, room, numbers):
+    # Each root, rising, with all worths it can have, rising: they settle those of all other
+    # letters. The numbers are ones that nothing bars.
+    ways = ways_of(seen)
+    first = first_odd(circles_of(seen, ways))
+    roots = [letter for letter in sorted(ways) if ways[letter][0] == letter]
+    return [(root, root_worths(first.get(root, []), room, numbers)) for root in roots]
+
+
+def worths_from(seen, room, numbers, starts):
+    ways = ways_of(seen)
+    found = []
+    for letter in sorted(ways):
+        start = starts[ways[letter][0]]
+        found.append((letter, comes_to(ways[letter][1], numbers, start) % room))
+    return tuple(found)
 
 
 def worths(words, look, room, numbers):
     if bar(words, look, room, numbers) is not None:
         raise Never("no worths give the words these numbers")
     seen = pairs(words, look)
-    ways = ways_of(seen)
-    first = first_odd(circles_of(seen, ways))
-    found = []
-    for letter in sorted(ways):
-        root = ways[letter][0]
-        start = root_worth(first.get(root, []), room, numbers)
-        found.append((letter, comes_to(ways[letter][1], numbers, start) % room))
-    return tuple(found)
+    starts = dict([(root, choices[0]) for root, choices in roots_of(seen, room, numbers)])
+    return worths_from(seen, room, numbers, starts)
 
 
 def is_telling(words, look, room, numbers, thing):

@@ -1,6 +1,8 @@
 """Wrong things, and slow and plain answers to hold the program's against."""
 
-from itertools import product
+from itertools import combinations, product
+
+from lookwords.errors import NoLook, NoNumbers, NoRoom, NoWords
 
 
 class Prickly:
@@ -28,6 +30,11 @@ NO_WORDS = ODD_THINGS + [
     ("\u00e4b",), ("\u00df",), ("\u0430",), ("\uff41",), ("a`",), ("a{",), ("@",), (b"ab",), (1,), (True,), (None,),
     (("a", "b"),), (["a", "b"],), ("ab", 1), ("ab", ["bc"]), ("ab", {}),
     ("a", "b", "c", "d", "e", "f", "g"), ("ab", "ab", 1),
+]
+
+NO_WORD = [thing for thing in ODD_THINGS if not (isinstance(thing, str) and thing == "ab")] + [
+    ["ab"], ("ab",), ("a", "b"), "abcdefg", "Ab", "aB", "AB", "a b", "ab ", " ab", "ab\n", "a-b", "a1", "1", "\u00e4b",
+    "\u00df", "\u0430", "\uff41", "a`", "a{", "@", {"a": "b"},
 ]
 
 NO_LOOKS = ODD_THINGS + [
@@ -71,14 +78,45 @@ def letters_in(seen):
     return sorted({letter for pair in seen for letter in pair})
 
 
+def numbers_by(seen, room, worths):
+    worth = dict(worths)
+    return tuple((worth[one] + worth[two]) % room for one, two in seen)
+
+
+def all_worths(seen, room):
+    """All worths of just the letters that are seen, rising."""
+    letters = letters_in(seen)
+    for values in product(range(room), repeat=len(letters)):
+        yield tuple(zip(letters, values))
+
+
 def numbers_that_can_be(seen, room):
     """All numbers that some worths give, by trying all worths."""
-    letters = letters_in(seen)
-    found = set()
-    for values in product(range(room), repeat=len(letters)):
-        worth = dict(zip(letters, values))
-        found.add(tuple((worth[one] + worth[two]) % room for one, two in seen))
-    return found
+    return {numbers_by(seen, room, worths) for worths in all_worths(seen, room)}
+
+
+def unlike(things):
+    return len(set(things)) == len(things)
+
+
+def first_one_to_one(seen, room):
+    """The first worths of all by which no two words have one number, or None."""
+    for worths in all_worths(seen, room):
+        if unlike(numbers_by(seen, room, worths)):
+            return worths
+    return None
+
+
+def first_by_steps(seen, room, worths=()):
+    """The same for more letters: worths are not gone on with where two words have one number already."""
+    known = dict(worths)
+    if not unlike(numbers_by([pair for pair in seen if set(pair) <= set(known)], room, worths)):
+        return None
+    letters = letters_in(seen)[len(worths):]
+    if not letters:
+        return worths
+    tried = (first_by_steps(seen, room, worths + ((letters[0], number),)) for number in range(room))
+    return next((found for found in tried if found is not None), None)
 
 
 def is_bar_plainly(seen, room, numbers, letter, walk):
@@ -97,3 +135,53 @@ def is_bar_plainly(seen, room, numbers, letter, walk):
     if len(walk) % 2 == 0:
         return signed % room != 0
     return room % 2 == 0 and signed % 2 == 1
+
+
+class FourRefusals:
+    """What all functions of words, a look, a room and numbers refuse; CALLS holds them, of these four alone."""
+
+    # These numbers are barred, so that a refusal has to come ahead of what is said of that.
+    GOOD = (("ab", "ba"), (0, 1), 9, (3, 4))
+    ORDER = (NoWords, NoLook, NoRoom, NoNumbers)
+
+    def check_refused(self, place, wrong_things):
+        for call in self.CALLS:
+            for at, wrong in enumerate(wrong_things):
+                asked = self.GOOD[:place] + (wrong,) + self.GOOD[place + 1:]
+                with self.subTest(at), self.assertRaises(self.ORDER[place]):
+                    call(*asked)
+
+    def test_no_words(self):
+        self.check_refused(0, NO_WORDS)
+
+    def test_no_look(self):
+        self.check_refused(1, NO_LOOKS)
+
+    def test_no_room(self):
+        self.check_refused(2, NO_ROOMS)
+
+    def test_no_numbers(self):
+        self.check_refused(3, no_numbers(2, 9))
+
+    def test_numbers_have_the_bounds_of_the_room(self):
+        for room in (1, 2, 99):
+            for wrong in ((room, room), (room, 0), (0, -1), (0,), (0, 0, 0)):
+                for call in self.CALLS:
+                    with self.subTest((room, wrong)), self.assertRaises(NoNumbers):
+                        call(*self.GOOD[:2], room, wrong)
+
+    def test_order(self):
+        wrong = (["ab"], (0, 3), 0, (9, 9))
+        for call in self.CALLS:
+            for first, refusal in enumerate(self.ORDER):
+                with self.subTest(refusal.__name__), self.assertRaises(refusal):
+                    call(*self.GOOD[:first], *wrong[first:])
+
+    def test_order_for_each_two(self):
+        wrong = (("ab", "ab"), (True, 0), 100, (0, 9))
+        for call in self.CALLS:
+            for first, second in combinations(range(4), 2):
+                asked = list(self.GOOD)
+                asked[first], asked[second] = wrong[first], wrong[second]
+                with self.assertRaises(self.ORDER[first]):
+                    call(*asked)

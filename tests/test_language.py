@@ -22,6 +22,7 @@ DUNDERS = ["__init__", "__eq__", "__repr__", "__str__", "__len__"]
 WORDS_OUT = """type typing typing_extensions enum Enum IntEnum StrEnum Flag IntFlag Generic Protocol ABC ABCMeta
 namedtuple NamedTuple TypedDict TYPE_CHECKING abstractmethod""".split()
 PARTS_OUT = ["dataclass", "overload", "contextmanager"]
+PYTHONS_OWN = [name for kind in (str, int, list, tuple, dict, set, bytes) for name in dir(kind)]
 WALKED = ["zip", "enumerate", "reversed", "range"]
 WALKERS = ["list", "tuple", "dict", "sorted", "sum", "any", "all", "enumerate", "zip", "min", "max"]
 
@@ -124,11 +125,23 @@ class LanguageTest(unittest.TestCase):
             for part in node.body:
                 self.assertIsInstance(part, (ast.FunctionDef, ast.Pass), where)
 
+    def test_no_name_is_a_method_and_a_value(self):
+        methods, values = [], []
+        for where, node in self.each(ast.ClassDef):
+            methods += [part.name for part in node.body if isinstance(part, ast.FunctionDef)]
+        for where, node in self.each(ast.Attribute):
+            if isinstance(node.ctx, ast.Store):
+                self.assertNotIn(node.attr, PYTHONS_OWN, where)
+                values.append(node.attr)
+        self.assertEqual(set(methods) & set(values), set())
+        self.assertEqual((set(methods) - set(DUNDERS)) & set(PYTHONS_OWN), set())
+
     def test_names(self):
         for where, node in self.each(ast.Name, ast.arg, ast.FunctionDef, ast.ClassDef, ast.Attribute):
             name = next(getattr(node, part) for part in ("id", "arg", "name", "attr") if hasattr(node, part))
-            if name not in DUNDERS:
-                self.assertRegex(name, r"^[A-Za-z][A-Za-z0-9_]*$", where)
+            if name in DUNDERS:
+                continue
+            self.assertRegex(name, r"^[A-Za-z][A-Za-z0-9_]*$", where)
             if isinstance(node, ast.Name) and isinstance(node.ctx, ast.Load):
                 self.assertTrue(name in BUILTINS or not hasattr(builtins, name), f"{where} {name}")
             elif not isinstance(node, ast.Attribute):

@@ -2,11 +2,10 @@ import inspect
 import unittest
 from itertools import combinations, product
 
-from lookwords.errors import Never, NoLook, NoNumbers, NoRoom, NoWords
+from lookwords.errors import Never, NoNumbers
 from lookwords.telling import bar, is_bar, is_telling, worths
 from lookwords.words import numbered, pairs
-from tests.samples import (NO_LOOKS, NO_ROOMS, NO_WORDS, ODD_THINGS, is_bar_plainly, letters_in, near_worths,
-                           no_numbers, numbers_that_can_be)
+from tests.samples import FourRefusals, ODD_THINGS, is_bar_plainly, letters_in, near_worths, numbers_that_can_be
 
 LOOK = (0, 1)
 
@@ -116,54 +115,12 @@ class BarOrWorthsTest(TellingCase):
         self.assertEqual([type(part) for part in some], [tuple, tuple])
 
 
-class RefusalsTest(unittest.TestCase):
-    WORDS = ("ab", "ba")
-    # Barred, so that a refusal has to come ahead of Never.
-    GOOD = (WORDS, LOOK, 9, (3, 4))
+class RefusalsTest(FourRefusals, unittest.TestCase):
     CALLS = (bar, worths, lambda *asked: is_telling(*asked, None), lambda *asked: is_bar(*asked, None))
 
-    def check_refused(self, refusal, place, wrong_things):
-        for call in self.CALLS:
-            for at, wrong in enumerate(wrong_things):
-                asked = self.GOOD[:place] + (wrong,) + self.GOOD[place + 1:]
-                with self.subTest(at), self.assertRaises(refusal):
-                    call(*asked)
-
-    def test_no_words(self):
-        self.check_refused(NoWords, 0, NO_WORDS)
-
-    def test_no_look(self):
-        self.check_refused(NoLook, 1, NO_LOOKS)
-
-    def test_no_room(self):
-        self.check_refused(NoRoom, 2, NO_ROOMS)
-
-    def test_no_numbers(self):
-        self.check_refused(NoNumbers, 3, no_numbers(2, 9))
-
-    def test_numbers_have_the_bounds_of_the_room(self):
+    def test_numbers_up_to_the_room_are_taken(self):
         for room in (1, 2, 99):
-            self.assertIsNone(bar(self.WORDS, LOOK, room, (room - 1, room - 1)))
-            for wrong in ((room, room), (room, 0), (0, -1), (0,), (0, 0, 0)):
-                for call in self.CALLS:
-                    with self.subTest((room, wrong)), self.assertRaises(NoNumbers):
-                        call(self.WORDS, LOOK, room, wrong)
-
-    def test_order(self):
-        wrong = (["ab"], (0, 3), 0, (9, 9))
-        for call in self.CALLS:
-            for first, refusal in enumerate((NoWords, NoLook, NoRoom, NoNumbers)):
-                with self.subTest(refusal.__name__), self.assertRaises(refusal):
-                    call(*self.GOOD[:first], *wrong[first:])
-
-    def test_order_for_each_two(self):
-        wrong = (("ab", "ab"), (True, 0), 100, (0, 9))
-        for call in self.CALLS:
-            for first, second in combinations(range(4), 2):
-                asked = list(self.GOOD)
-                asked[first], asked[second] = wrong[first], wrong[second]
-                with self.assertRaises((NoWords, NoLook, NoRoom, NoNumbers)[first]):
-                    call(*asked)
+            self.assertIsNone(bar(("ab", "ba"), LOOK, room, (room - 1, room - 1)))
 
     def test_never_comes_last(self):
         with self.assertRaises(Never):
