@@ -1,7 +1,8 @@
 """What counts as a word, a look, a room and the like, and the refusals of what does not."""
 
-from lookwords.errors import NoLook, NoNumbers, NoRoom, NoWords, NoWorths
+from lookwords.errors import NoLetters, NoLook, NoNumbers, NoRoom, NoText, NoWord, NoWords, NoWorths
 
+LETTERS = "abcdefghijklmnopqrstuvwxyz"
 MOST_WORDS = 6
 MOST_LETTERS = 6
 MOST_ROOM = 99
@@ -19,6 +20,10 @@ def is_between(thing, least, most):
 
 def is_letter(thing):
     return isinstance(thing, str) and len(thing) == 1 and "a" <= thing <= "z"
+
+
+def is_letters(thing):
+    return isinstance(thing, str) and len(thing) == len(LETTERS) and sorted(thing) == list(LETTERS)
 
 
 def is_word(thing):
@@ -71,6 +76,16 @@ def check_words(thing):
         raise NoWords("words are a tuple of 1 to 6 unlike words of 1 to 6 letters from a to z")
 
 
+def check_word(thing):
+    if not is_word(thing):
+        raise NoWord("a word has 1 to 6 letters from a to z")
+
+
+def check_letters(thing):
+    if not is_letters(thing):
+        raise NoLetters("other letters are a text of all letters from a to z, each once")
+
+
 def check_look(thing):
     if not is_look(thing):
         raise NoLook("a look is a tuple of two places from -3 to 2")
@@ -89,3 +104,8 @@ def check_worths(thing, room):
 def check_numbers(thing, count, room):
     if not is_numbers(thing, count, room):
         raise NoNumbers("numbers are a tuple of a number within the room for each word")
+
+
+def check_text(thing):
+    if not isinstance(thing, str):
+        raise NoText("this is no text")

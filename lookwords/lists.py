@@ -1,6 +1,6 @@
 """Lists of words, whose numbers stay unlike while words come."""
 
-from lookwords.checks import MOST_WORDS, check_look, is_word
+from lookwords.checks import MOST_WORDS, check_look, check_word, is_word
 from lookwords.errors import Full, Known, Never, NoWord
 from lookwords.rooms import clash_of, least_worths, room_from
 from lookwords.words import numbered, pairs
@@ -21,8 +21,7 @@ class Words:
         return self.width
 
     def check_new(self, word):
-        if not is_word(word):
-            raise NoWord("a word has 1 to 6 letters from a to z")
+        check_word(word)
         if word in self.came:
             raise Known("the word is there")
         if len(self.came) == MOST_WORDS:

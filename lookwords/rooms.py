@@ -1,9 +1,9 @@
 """Rooms within which words have unlike numbers."""
 
-from lookwords.checks import LEAST_PLACE, MOST_PLACE, check_room, check_words
+from lookwords.checks import check_room, check_words
 from lookwords.errors import Never
 from lookwords.telling import bar
-from lookwords.words import letters_of, pairs
+from lookwords.words import all_looks, letters_of, pairs
 
 
 def are_alike(one, two):
@@ -131,12 +131,7 @@ def least_room(words, look):
 
 def looks(words):
     check_words(words)
-    places = list(range(LEAST_PLACE, MOST_PLACE + 1))
-    found = []
-    for first in places:
-        every = [(first, second) for second in places]
-        found.extend([look for look in every if can_differ(pairs(words, look), len(words), {})])
-    return found
+    return [look for look in all_looks() if can_differ(pairs(words, look), len(words), {})]
 
 
 def in_order(words, look):

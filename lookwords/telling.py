@@ -83,8 +83,7 @@ def first_odd(circles):
     return first
 
 
-def bar(words, look, room, numbers):
-    seen = told_pairs(words, look, room, numbers)
+def bar_of(seen, room, numbers):
     circles = circles_of(seen, ways_of(seen))
     first = first_odd(circles)
     # Each odd circle fixes twice its root's worth: two of them may not agree on it,
@@ -94,6 +93,10 @@ def bar(words, look, room, numbers):
         if bars(walk, room, numbers):
             return (root, walk)
     return None
+
+
+def bar(words, look, room, numbers):
+    return bar_of(told_pairs(words, look, room, numbers), room, numbers)
 
 
 def half(total, room):

@@ -1,7 +1,15 @@
 """Words as they are seen by a look, and their numbers by worths."""
 
-from lookwords.checks import check_look, check_room, check_words, check_worths
+from lookwords.checks import LEAST_PLACE, MOST_PLACE, check_look, check_room, check_words, check_worths
 from lookwords.errors import NoWorths
+
+
+def all_looks():
+    places = list(range(LEAST_PLACE, MOST_PLACE + 1))
+    found = []
+    for first in places:
+        found.extend([(first, second) for second in places])
+    return found
 
 
 def letter_at(word, place):

@@ -3,6 +3,10 @@
 from itertools import combinations, product
 
 from lookwords.errors import NoLook, NoNumbers, NoRoom, NoWords
+from lookwords.lists import Words
+
+
+ALL_LOOKS = list(product(range(-3, 3), repeat=2))
 
 
 class Prickly:
@@ -44,6 +48,11 @@ NO_LOOKS = ODD_THINGS + [
 
 NO_ROOMS = [thing for thing in ODD_THINGS if not (isinstance(thing, int) and thing in (1, 7)) or thing is True] + [
     -99, 100, 101, "5", (5,), [5], b"\x05", {5: 5}, {5},
+]
+
+
+NO_TEXTS = [thing for thing in ODD_THINGS if not isinstance(thing, str)] + [
+    ("a1",), ["a1"], b"a1", (("a", 1),), ("0 1:",), ["0 1:"], b"0 1:", {"a": 1}, Words((0, 1)),
 ]
 
 
@@ -135,6 +144,18 @@ def is_bar_plainly(seen, room, numbers, letter, walk):
     if len(walk) % 2 == 0:
         return signed % room != 0
     return room % 2 == 0 and signed % 2 == 1
+
+
+def list_of_words(words, look=(0, 1)):
+    some = Words(look)
+    for word in words:
+        some.come(word)
+    return some
+
+
+def all_told(some):
+    """All that a list of words tells."""
+    return (some.words(), some.room(), some.numbers())
 
 
 class FourRefusals:

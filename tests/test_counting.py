@@ -7,7 +7,7 @@ from lookwords.counting import how_many, place_of, worths_at
 from lookwords.errors import NoNumbers, NoPlace, NoWorths
 from lookwords.telling import bar, is_telling
 from lookwords.words import pairs
-from tests.samples import FourRefusals, ODD_THINGS, all_worths, near_worths, numbers_by
+from tests.samples import ALL_LOOKS, FourRefusals, ODD_THINGS, all_worths, near_worths, numbers_by
 
 LOOK = (0, 1)
 LOOPS = ("aa", "bb", "cc", "dd", "ee", "ff")
@@ -77,7 +77,7 @@ class CountedTest(CountingCase):
 
     def test_every_look(self):
         words = ("a", "ba", "cab")
-        for look in product(range(-3, 3), repeat=2):
+        for look in ALL_LOOKS:
             for room in (3, 4):
                 self.check_all_numbers(words, look, room)
 

@@ -7,22 +7,11 @@ from lookwords.errors import Full, Known, Never, NoLook, NoWord
 from lookwords.lists import Words
 from lookwords.rooms import clash, least_room, one_to_one
 from lookwords.words import numbered, pairs
-from tests.samples import NO_LOOKS, NO_WORD, first_by_steps, numbers_by
+from tests.samples import ALL_LOOKS, NO_LOOKS, NO_WORD, all_told, first_by_steps, list_of_words, numbers_by
 
 LOOK = (0, 1)
 LOOPS = ("aa", "bb", "cc", "dd", "ee", "ff")
 APART = ("ag", "bh", "ci", "dj", "ek", "fl")
-
-
-def list_of_words(words, look=LOOK):
-    some = Words(look)
-    for word in words:
-        some.come(word)
-    return some
-
-
-def all_told(some):
-    return (some.words(), some.room(), some.numbers())
 
 
 class ListCase(unittest.TestCase):
@@ -53,7 +42,7 @@ class AtFirstTest(ListCase):
             self.assertEqual(list(inspect.signature(getattr(Words, name)).parameters), ["self"] + asked)
 
     def test_no_words_and_a_room_of_0(self):
-        for look in product(range(-3, 3), repeat=2):
+        for look in ALL_LOOKS:
             some = Words(look)
             self.assertEqual(all_told(some), ((), 0, []))
             self.assertEqual((type(some.words()), type(some.room()), type(some.numbers())), (tuple, int, list))

@@ -8,11 +8,10 @@ from lookwords.errors import Never, NoLook, NoRoom, NoWords
 from lookwords.rooms import clash, in_order, least_room, looks, one_to_one
 from lookwords.telling import is_telling
 from lookwords.words import numbered, pairs
-from tests.samples import (NO_LOOKS, NO_ROOMS, NO_WORDS, first_by_steps, first_one_to_one, letters_in,
+from tests.samples import (ALL_LOOKS, NO_LOOKS, NO_ROOMS, NO_WORDS, first_by_steps, first_one_to_one, letters_in,
                            numbers_that_can_be)
 
 LOOK = (0, 1)
-ALL_LOOKS = list(product(range(-3, 3), repeat=2))
 LOOPS = ("aa", "bb", "cc", "dd", "ee", "ff")
 FOUR_ALL = ("ab", "ac", "ad", "bc", "bd", "cd")
 THREE_ALL = ("aa", "ab", "ac", "bb", "bc", "cc")

@@ -5,7 +5,8 @@ from itertools import combinations, product
 from lookwords.errors import Never, NoNumbers
 from lookwords.telling import bar, is_bar, is_telling, worths
 from lookwords.words import numbered, pairs
-from tests.samples import FourRefusals, ODD_THINGS, is_bar_plainly, letters_in, near_worths, numbers_that_can_be
+from tests.samples import (ALL_LOOKS, FourRefusals, ODD_THINGS, is_bar_plainly, letters_in, near_worths,
+                           numbers_that_can_be)
 
 LOOK = (0, 1)
 
@@ -65,7 +66,7 @@ class BarOrWorthsTest(TellingCase):
 
     def test_every_look(self):
         words = ("a", "ba", "cab", "abcd")
-        for look in product(range(-3, 3), repeat=2):
+        for look in ALL_LOOKS:
             for room in (2, 3):
                 self.check_all_numbers(words, look, room)
 
@@ -103,7 +104,7 @@ class BarOrWorthsTest(TellingCase):
 
     def test_numbers_from_worths_are_always_told(self):
         words = ("cat", "dog", "tag", "goat", "cod", "toad")
-        for look in product(range(-3, 3), repeat=2):
+        for look in ALL_LOOKS:
             for room in (1, 2, 13, 50, 99):
                 some = tuple((letter, (7 * at * at + 5 * at) % room)
                              for at, letter in enumerate("abcdefghijklmnopqrstuvwxyz"))
